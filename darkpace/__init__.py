@@ -1,0 +1,1 @@
+"""Darkpace: hands in the dark, on a dial where nobody overtakes."""
