@@ -129,6 +129,15 @@ def chance_dark(chance, length, many):
     return dark
 
 
+class Refusing:
+    """For test cases: a call that is refused, with the value that the refusal keeps."""
+
+    def refused(self, kind, what, call, *values):
+        with self.assertRaises(kind) as caught:
+            call(*values)
+        self.assertEqual(caught.exception.what, what)
+
+
 class Chained:
     """A told function of least places as a list of (x, y), chained with itself by squaring."""
 

@@ -6,7 +6,7 @@ import unittest
 from darkpace.darks import Dark
 from darkpace.errors import Clash, NoLength, NoLook, NoWord
 from oracle import (
-    WORDS, all_hands, back_of, bounds, chance_dark, chance_look, dark_of, fitting, home, is_as, lead,
+    Refusing, WORDS, all_hands, back_of, bounds, chance_dark, chance_look, dark_of, fitting, home, is_as, lead,
 )
 
 
@@ -68,12 +68,7 @@ class Hearing(unittest.TestCase):
         self.assertEqual(dark_of(10, *looks).looks(), dark_of(10, *reversed(looks)).looks())
 
 
-class Refusals(unittest.TestCase):
-    def refused(self, kind, what, call, *values):
-        with self.assertRaises(kind) as caught:
-            call(*values)
-        self.assertEqual(caught.exception.what, what)
-
+class Refusals(Refusing, unittest.TestCase):
     def test_a_word_that_no_look_has(self):
         dark = dark_of(10, ("at", 3, 4))
         for word in ("", "At", "to", "at ", "below"):

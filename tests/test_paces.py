@@ -10,16 +10,11 @@ from darkpace.errors import NoRing, NoRound, NoSide
 from darkpace.paces import paces, ring, ring_pace
 from darkpace.rounds import greatest_behind, least_behind
 from oracle import (
-    SIDES, all_rings, bounds, chance_dark, dark_of, fitting, looked_at, pace, pace_of_ring, pair,
+    Refusing, SIDES, all_rings, bounds, chance_dark, dark_of, fitting, looked_at, pace, pace_of_ring, pair,
 )
 
 
-class Refusals(unittest.TestCase):
-    def refused(self, kind, what, call, *values):
-        with self.assertRaises(kind) as caught:
-            call(*values)
-        self.assertEqual(caught.exception.what, what)
-
+class Refusals(Refusing, unittest.TestCase):
     def test_no_hands_make_no_round(self):
         self.refused(NoRound, None, paces, [])
         for side in SIDES:
@@ -156,7 +151,8 @@ class Paces(unittest.TestCase):
         chance = random.Random(18)
         for _ in range(300):
             length = chance.randint(1, 9)
-            slow, fast = paces([(dark := chance_dark(chance, length, 7))])
+            dark = chance_dark(chance, length, 7)
+            slow, fast = paces([dark])
             turned = [None if told is None else (-told[0], told[1]) for told in (fast, slow)]
             self.assertEqual(paces([dark.led_back()]), tuple(turned))
 

@@ -7,18 +7,13 @@ from itertools import product
 from darkpace.darks import Dark
 from darkpace.errors import NoRound, NoUses
 from darkpace.rounds import fewest_uses, greatest_behind, least_behind, most_uses
-from oracle import bounds, chance_dark, dark_of, fitting, places
+from oracle import Refusing, bounds, chance_dark, dark_of, fitting, places
 
 TO_PLACES = (least_behind, greatest_behind)
 TO_USES = (fewest_uses, most_uses)
 
 
-class Refusals(unittest.TestCase):
-    def refused(self, kind, what, call, *values):
-        with self.assertRaises(kind) as caught:
-            call(*values)
-        self.assertEqual(caught.exception.what, what)
-
+class Refusals(Refusing, unittest.TestCase):
     def test_no_hands_make_no_round(self):
         for call in TO_PLACES + TO_USES:
             self.refused(NoRound, None, call, [], 0, 3)
