@@ -55,6 +55,37 @@ def back_of(hand):
     return tuple(told)
 
 
+def told_hand(length, steps):
+    """The hand that leads z to the greatest y + kL with x + kL not above z, k by k."""
+    turns = 4 + max(abs(x) + abs(y) for x, y in steps) // length
+    return tuple(
+        max(y + k * length for x, y in steps for k in range(-turns, turns) if x + k * length <= z)
+        for z in range(length)
+    )
+
+
+def homes_of(hand, p, q, start, stop):
+    """The places from start to stop - 1 that q uses lead just p turns on."""
+    return [x for x in range(start, stop) if places((hand,), x, q)[-1] == x + p * len(hand)]
+
+
+def gates_of(hand):
+    """The gates, by the homes of the hand and those of the hand led back."""
+    length, fraction = len(hand), pace((hand,))
+    p, q = fraction.numerator, fraction.denominator
+    begins = homes_of(back_of(hand), -p, q, -length, length)
+    return [(max(a for a in begins if a <= h), h) for h in homes_of(hand, p, q, 0, length)]
+
+
+def nearest(fraction, bottom):
+    """The neighbours of a fraction, of all with bottoms to the told one, and those that are not the fraction itself."""
+    lower = max(Fraction((fraction * b).__floor__(), b) for b in range(1, bottom + 1))
+    upper = min(Fraction((fraction * b).__ceil__(), b) for b in range(1, bottom + 1))
+    below = max(Fraction((fraction * b).__ceil__() - 1, b) for b in range(1, bottom + 1))
+    above = min(Fraction((fraction * b).__floor__() + 1, b) for b in range(1, bottom + 1))
+    return [pair(told) for told in (lower, upper, below, above)]
+
+
 def bounds(near, far):
     """(least, greatest) of the far values, None where the far hands go farther than the near ones.
 

@@ -16,6 +16,10 @@ INTERFACE = {
     "darks.py": ("Dark",),
     "rounds.py": ("least_behind", "greatest_behind", "fewest_uses", "most_uses"),
     "paces.py": ("paces", "ring", "ring_pace"),
+    "hands.py": ("Hand",),
+    "looking.py": ("neighbours", "followed"),
+    "texts.py": ("show_look", "show_dark", "show_hand"),
+    "readings.py": ("read_look", "read_dark", "read_hand"),
 }
 LIBRARY = {
     "math": ("gcd", "lcm", "isqrt", "comb", "perm", "factorial"),

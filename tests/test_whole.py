@@ -1,4 +1,7 @@
-"""[1], [2] and [4]: what is handed in and told, names of arguments, sizes, the whole."""
+"""[1], [2] and [4]: what is handed in and told, names of arguments, sizes of darks and rounds, the whole.
+
+The sizes of told hands, of looking and of texts are tested with these.
+"""
 
 import copy
 import inspect
@@ -7,10 +10,11 @@ import unittest
 from fractions import Fraction
 from itertools import permutations
 
-from darkpace import darks, paces, rounds
+from darkpace import darks, hands, looking, paces, readings, rounds, texts
 from darkpace.darks import Dark
-from darkpace.errors import Clash, NoLook, NoRing
-from oracle import SIDES, chained_behind, dark_of, looked_at, pace_of_ring, pair
+from darkpace.errors import Clash, NoLook, NoRing, NoText, NoUses
+from darkpace.hands import Hand
+from oracle import SIDES, chance_dark, chained_behind, dark_of, looked_at, pace_of_ring, pair
 
 HUGE = 10 ** 30 - 57
 FAR = 10 ** 60 - 1
@@ -33,6 +37,12 @@ class Arguments(unittest.TestCase):
             (rounds.fewest_uses, ["hands", "x", "y"]), (rounds.most_uses, ["hands", "x", "y"]),
             (paces.paces, ["hands"]), (paces.ring, ["hands", "side"]),
             (paces.ring_pace, ["hands", "side", "looks"]),
+            (Hand, ["length", "steps"]), (Hand.length, []), (Hand.steps, []), (Hand.lead, ["x", "uses"]),
+            (Hand.pace, []), (Hand.back, ["y"]), (Hand.uses, ["x", "y"]), (Hand.homes, []), (Hand.gates, []),
+            (Hand.led_back, []), (looking.neighbours, ["fraction", "bottom"]),
+            (looking.followed, ["length", "first", "leads"]), (texts.show_look, ["look"]), (texts.show_dark, ["dark"]),
+            (texts.show_hand, ["hand"]), (readings.read_look, ["text"]), (readings.read_dark, ["text"]),
+            (readings.read_hand, ["text"]),
         ):
             self.assertEqual(self.names(call), names, call)
 
@@ -51,9 +61,25 @@ class Arguments(unittest.TestCase):
         self.assertEqual(paces.ring(side="slow", hands=[dark]), [("at", 3, 4)])
         self.assertEqual(paces.ring_pace(looks=[("at", 3, 4)], hands=[dark], side="slow"), (0, 1))
 
+    def test_arguments_of_told_hands_may_be_handed_in_by_their_names(self):
+        hand = Hand(steps=[(0, 7), (5, 12)], length=10)
+        self.assertEqual((hand.lead(uses=2, x=3), hand.lead(x=3), hand.lead(3, uses=0)), (12, 7, 3))
+        self.assertEqual((hand.back(y=8), hand.uses(y=12, x=3)), (5, 2))
+        self.assertEqual(looking.neighbours(bottom=2, fraction=(3, 7)), ((0, 1), (1, 2)))
+        self.assertEqual(looking.followed(leads=[7, 14], length=7, first=0), ((1, 1), (1, 1)))
+        self.assertEqual(texts.show_look(look=("at", 3, 4)), "at 3 4")
+        self.assertEqual(texts.show_dark(dark=Dark(4)), "4")
+        self.assertEqual(texts.show_hand(hand=hand), "10: 0 7, 5 12")
+        self.assertEqual(readings.read_look(text="at 3 4"), ("at", 3, 4))
+        self.assertEqual(readings.read_dark(text="4"), Dark(4))
+        self.assertEqual(readings.read_hand(text="10: 0 7, 5 12"), hand)
+
     def test_everything_is_defined_in_its_own_file(self):
         for module, names in ((darks, ["Dark"]), (paces, ["paces", "ring", "ring_pace"]),
-                              (rounds, ["least_behind", "greatest_behind", "fewest_uses", "most_uses"])):
+                              (rounds, ["least_behind", "greatest_behind", "fewest_uses", "most_uses"]),
+                              (hands, ["Hand"]), (looking, ["neighbours", "followed"]),
+                              (texts, ["show_look", "show_dark", "show_hand"]),
+                              (readings, ["read_look", "read_dark", "read_hand"])):
             for name in names:
                 self.assertEqual(getattr(module, name).__module__, module.__name__)
 
@@ -61,6 +87,9 @@ class Arguments(unittest.TestCase):
         for name in ("length", "hear", "drop", "looks", "least", "greatest", "may", "sure", "led_back",
                      "__init__", "__eq__", "__ne__"):
             self.assertIn(name, vars(Dark))
+        for name in ("length", "steps", "lead", "pace", "back", "uses", "homes", "gates", "led_back",
+                     "__init__", "__eq__", "__ne__"):
+            self.assertIn(name, vars(Hand))
 
 
 class TheAskersOwn(unittest.TestCase):
@@ -124,6 +153,56 @@ class TheAskersOwn(unittest.TestCase):
         one.hear("at", 3, 4)
         self.assertEqual(other.looks(), [])
 
+    def test_steps_that_were_handed_in_are_not_changed_or_kept(self):
+        steps = [(13, 14), (5, 6), (5, 6)]
+        hand = Hand(10, steps)
+        self.assertEqual(steps, [(13, 14), (5, 6), (5, 6)])
+        steps.append((7, 99))
+        steps[0] = (0, 0)
+        self.assertEqual((hand.steps(), hand.lead(7)), ([(3, 4), (5, 6)], 6))
+
+    def test_lists_that_a_told_hand_tells_are_new_ones(self):
+        hand = Hand(10, [(0, 7), (5, 12)])
+        for call, told in ((hand.steps, [(0, 7), (5, 12)]), (hand.homes, [2, 7]), (hand.gates, [(0, 2), (5, 7)])):
+            first = call()
+            first.append(None)
+            first[0] = None
+            self.assertEqual(call(), told)
+            self.assertIsNot(call(), call())
+        self.assertEqual((hand.lead(3), hand.back(8), hand.pace()), (7, 5, (1, 2)))
+
+    def test_asking_a_told_hand_changes_nothing(self):
+        hand, same = Hand(10, [(0, 7), (5, 12)]), Hand(10, [(0, 7), (5, 12)])
+        for _ in range(2):
+            told = (hand.lead(3), hand.lead(3, 9), hand.back(3), hand.uses(3, 40), hand.homes(), hand.gates(),
+                    hand.led_back().steps(), hand.led_back().led_back().lead(4))
+            self.assertEqual(told, (7, 47, 0, 8, [2, 7], [(0, 2), (5, 7)], hand.led_back().steps(), 8))
+            with self.assertRaises(NoUses):
+                hand.lead(3, -1)
+            self.assertEqual(hand, same)
+
+    def test_leads_and_texts_and_looks_that_were_handed_in_are_not_changed(self):
+        leads, fraction, dark = [4, 9, 12, 15], (3, 7), dark_of(10, ("at", 3, 4))
+        looking.followed(12, 1, leads)
+        with self.assertRaises(Clash):
+            looking.followed(12, 5, leads)
+        self.assertEqual(leads, [4, 9, 12, 15])
+        looking.neighbours(fraction, 3)
+        self.assertEqual(fraction, (3, 7))
+        texts.show_dark(dark)
+        self.assertEqual(dark, dark_of(10, ("at", 3, 4)))
+        with self.assertRaises(NoText):
+            readings.read_dark("10; at 3 4; at 3 5")
+        self.assertEqual(looking.followed(12, 1, leads), looking.followed(12, 1, leads))
+
+    def test_numbers_that_a_told_hand_tells_are_whole(self):
+        hand = readings.read_hand("10: 0 7, 5 12")
+        for value in (hand.length(), hand.lead(0), hand.lead(0, 0), hand.back(1), hand.uses(0, 1), hand.uses(0, 0),
+                      *hand.homes(), *hand.pace(), *hand.gates()[0], *hand.steps()[0], *Hand(1, [(0, 0)]).homes()):
+            self.assertTrue(is_whole(value))
+        for fraction in looking.neighbours((1, 3), 2) + looking.followed(10, 0, [3]):
+            self.assertTrue(len(fraction) == 2 and is_whole(fraction[0]) and is_whole(fraction[1]))
+
     def test_numbers_that_are_told_are_whole(self):
         dark = dark_of(10, ("at", 3, 4), ("from", 5, 1))
         for value in (dark.length(), dark.least(1), dark.greatest(1), rounds.least_behind([dark], 1, 5),
@@ -166,6 +245,83 @@ class TheWhole(unittest.TestCase):
             for behind in (rounds.least_behind, rounds.greatest_behind):
                 told = [behind(hands, x, uses) for x in range(-15, 25)]
                 self.assertEqual(told, sorted(told))
+
+
+class TheWholeOfToldHands(unittest.TestCase):
+    def chance_hand(self, chance):
+        length = chance.randint(1, 15)
+        steps = [(x, x + chance.randint(0, 2 * length)) for x in range(0, length, chance.randint(1, 4))]
+        return Hand(length, steps)
+
+    def test_k_times_p_turns_on_take_q_times_k_uses_or_one_more(self):
+        chance = random.Random(40)
+        gates = gaps = 0
+        for _ in range(200):
+            hand = self.chance_hand(chance)
+            length, (p, q) = hand.length(), hand.pace()
+            inside = {x % length for a, home in hand.gates() for x in range(a, home + 1)}
+            for x in range(length) if p > 0 else ():
+                more = x not in inside
+                self.assertEqual([hand.uses(x, x + k * p * length) for k in (1, 2, 3, 10 ** 50)],
+                                 [q * k + more for k in (1, 2, 3, 10 ** 50)])
+                gaps += more
+                gates += not more
+        self.assertGreater(min(gaps, gates), 100)
+
+    def test_a_told_hand_fits_the_dark_that_looked_at_it(self):
+        chance = random.Random(41)
+        for _ in range(100):
+            hand = self.chance_hand(chance)
+            length, dark = hand.length(), Dark(hand.length())
+            for _ in range(chance.randint(1, 5)):
+                x = chance.randint(-20, 20)
+                dark.hear("at", x, hand.lead(x))
+            slow, fast = paces.paces([dark])
+            self.assertTrue(Fraction(*slow) <= Fraction(*hand.pace()) <= Fraction(*fast))
+            for x in range(length):
+                for uses in (1, 2, 9, 10 ** 40):
+                    self.assertLessEqual(rounds.least_behind([dark], x, uses), hand.lead(x, uses))
+                    self.assertGreaterEqual(rounds.greatest_behind([dark], x, uses), hand.lead(x, uses))
+                self.assertTrue(dark.led_back().least(x) is None or dark.led_back().least(x) <= hand.back(x))
+                self.assertLessEqual(hand.back(x), dark.led_back().greatest(x))
+
+    def test_the_least_and_the_greatest_hands_of_a_dark_told_whole(self):
+        chance = random.Random(42)
+        for _ in range(100):
+            length = chance.randint(1, 8)
+            dark = chance_dark(chance, length, 6)
+            dark.hear("at", *self.a_place(dark))
+            for bound, behind, told in zip((dark.least, dark.greatest), (rounds.least_behind, rounds.greatest_behind),
+                                           paces.paces([dark])):
+                hand = Hand(length, [(x, bound(x)) for x in range(length)])
+                self.assertEqual(hand.pace(), told)
+                for x in range(length):
+                    self.assertEqual(hand.lead(x, 77), behind([dark], x, 77))
+
+    def a_place(self, dark):
+        """A place with one where a hand that fits leads it."""
+        known = [place for place in (dark.least(0), dark.greatest(0)) if place is not None]
+        return (0, known[0] if known else 3)
+
+    def test_whoever_follows_a_told_hand_knows_its_neighbours(self):
+        chance = random.Random(43)
+        for _ in range(100):
+            hand = self.chance_hand(chance)
+            first, own = chance.randint(-20, 20), hand.pace()
+            for many in (1, 2, 3, 5, 8, 16):
+                leads = [hand.lead(first, uses) for uses in range(1, many + 1)]
+                told = looking.followed(hand.length(), first, leads)
+                if own[1] > many:
+                    self.assertEqual(told, looking.neighbours(own, many))
+                else:
+                    self.assertIn(own, told)
+
+    def test_a_text_tells_the_whole_of_a_hand(self):
+        chance = random.Random(44)
+        for _ in range(50):
+            hand = self.chance_hand(chance)
+            read = readings.read_hand(texts.show_hand(hand.led_back()))
+            self.assertEqual((read.pace(), read.gates()), (hand.led_back().pace(), hand.led_back().gates()))
 
 
 class Sizes(unittest.TestCase):
