@@ -14,7 +14,7 @@ def neighbours(fraction, bottom):
         return ((top, own_bottom), (top, own_bottom))
     lower = (top // own_bottom, 1)
     upper = (lower[0] + 1, 1)
-    # Of all fractions between two nearest ones the one with the least bottom is their tops by their bottoms added.
+    # Between the two, the fraction of the least bottom has their tops added above their bottoms added.
     while lower[1] + upper[1] <= bottom:
         lower = nearer(lower, upper, fraction, bottom)
         upper = nearer(upper, lower, fraction, bottom)
